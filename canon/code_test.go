@@ -9,6 +9,7 @@ import (
 	"unravel/api"
 	"unravel/canon"
 	"unravel/diagram"
+	"unravel/example"
 )
 
 func TestCode(t *testing.T) {
@@ -25,14 +26,14 @@ func TestKey(t *testing.T) {
 		want string
 	}{
 		{api.Diagram{}, "0,0"},
-		{loops(64), "64,0"},
-		{kink(), "0,1,1,1,1,0,3,2"},
-		{beside(negativeKink(), loops(10)), "10,1,1,-1,3,2,1,0"},
+		{example.Loops(64), "64,0"},
+		{example.Kink(), "0,1,1,1,1,0,3,2"},
+		{beside(example.NegativeKink(), example.Loops(10)), "10,1,1,-1,3,2,1,0"},
 		{twisted(2, 1), "0,1,2,1,5,4,7,6,1,1,0,3,2"},
-		{trefoil(), "0,1,3,1,5,8,11,6,1,9,0,3,10,1,1,4,7,2"},
-		{figureEight(), "0,1,4,-1,5,10,9,12,1,11,0,15,14,-1,13,2,1,4,1,3,8,7,6"},
-		{beside(twisted(2, -1), kink()), "0,2,1,1,1,0,3,2,2,-1,7,6,5,4,-1,3,2,1,0"},
-		{loops(65), ""},
+		{example.Trefoil(), "0,1,3,1,5,8,11,6,1,9,0,3,10,1,1,4,7,2"},
+		{example.FigureEight(), "0,1,4,-1,5,10,9,12,1,11,0,15,14,-1,13,2,1,4,1,3,8,7,6"},
+		{beside(twisted(2, -1), example.Kink()), "0,2,1,1,1,0,3,2,2,-1,7,6,5,4,-1,3,2,1,0"},
+		{example.Loops(65), ""},
 	} {
 		if key := canon.Key(c.d); key != c.want {
 			t.Errorf("%v: the key %q, not %q", c.d, key, c.want)
@@ -53,7 +54,7 @@ func TestKeyIsTheTextOfTheCode(t *testing.T) {
 }
 
 func TestInvalidDiagramsHaveNoCode(t *testing.T) {
-	for _, d := range invalidDiagrams() {
+	for _, d := range example.Invalid() {
 		if code, key := canon.Code(d), canon.Key(d); len(code) > 0 || key != "" {
 			t.Errorf("%v: the code %v and the key %q", d, code, key)
 		}
@@ -142,7 +143,7 @@ func TestCodesAndFormsByDefinition(t *testing.T) {
 		compare(t, reflected(d))
 	}
 	for n := range 4 {
-		everySmall(n, func(d api.Diagram) {
+		example.EverySmall(n, func(d api.Diagram) {
 			for d.Loops = range 3 {
 				compare(t, d)
 			}

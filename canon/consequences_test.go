@@ -7,30 +7,31 @@ import (
 	"unravel/api"
 	"unravel/canon"
 	"unravel/diagram"
+	"unravel/example"
 )
 
 func TestSame(t *testing.T) {
 	different := []api.Diagram{
 		{},
-		loops(1),
-		kink(),
-		negativeKink(),
-		beside(kink(), loops(1)),
-		copies(2, kink()),
-		beside(kink(), negativeKink()),
-		copies(2, negativeKink()),
+		example.Loops(1),
+		example.Kink(),
+		example.NegativeKink(),
+		beside(example.Kink(), example.Loops(1)),
+		copies(2, example.Kink()),
+		beside(example.Kink(), example.NegativeKink()),
+		copies(2, example.NegativeKink()),
 		twisted(2, 1),
 		twisted(2, -1),
 		closure(2, 1, -1),
-		trefoil(),
-		reflected(trefoil()),
+		example.Trefoil(),
+		reflected(example.Trefoil()),
 		closure(2, 1, 1, -1),
-		beside(trefoil(), loops(1)),
-		beside(trefoil(), kink()),
-		beside(trefoil(), negativeKink()),
-		copies(2, trefoil()),
-		beside(trefoil(), reflected(trefoil())),
-		figureEight(),
+		beside(example.Trefoil(), example.Loops(1)),
+		beside(example.Trefoil(), example.Kink()),
+		beside(example.Trefoil(), example.NegativeKink()),
+		copies(2, example.Trefoil()),
+		beside(example.Trefoil(), reflected(example.Trefoil())),
+		example.FigureEight(),
 		closure(3, 1, 1, 1, -2, 1, -2),
 		closure(3, -1, -1, -1, 2, -1, 2),
 		twisted(api.MaxCrossings, 1),
@@ -49,8 +50,8 @@ func TestSame(t *testing.T) {
 }
 
 func TestInvalidDiagramsAreNeverTheSame(t *testing.T) {
-	for _, a := range invalidDiagrams() {
-		for _, b := range append(invalidDiagrams(), a, api.Diagram{}, kink(), trefoil()) {
+	for _, a := range example.Invalid() {
+		for _, b := range append(example.Invalid(), a, api.Diagram{}, example.Kink(), example.Trefoil()) {
 			if canon.Same(a, b) || canon.Same(b, a) {
 				t.Errorf("%v and %v are the same", a, b)
 			}
@@ -61,7 +62,7 @@ func TestInvalidDiagramsAreNeverTheSame(t *testing.T) {
 // TestSomeDiagramsAreTheirOwnImages: reversing does not change a closed braid on
 // two strands, and reflecting it does.
 func TestSomeDiagramsAreTheirOwnImages(t *testing.T) {
-	for _, d := range []api.Diagram{twisted(2, 1), trefoil(), twisted(5, -1), twisted(api.MaxCrossings, 1)} {
+	for _, d := range []api.Diagram{twisted(2, 1), example.Trefoil(), twisted(5, -1), twisted(api.MaxCrossings, 1)} {
 		if !canon.Same(d, reversed(d)) || canon.Same(d, reflected(d)) {
 			t.Errorf("%v: wrong images", d)
 		}
@@ -104,7 +105,7 @@ func partsBackwards(d api.Diagram) []int {
 func TestSameOnlyIfIsomorphic(t *testing.T) {
 	for n := range 4 {
 		keyOf, nameOf := map[string]string{}, map[string]string{}
-		everySmall(n, func(d api.Diagram) {
+		example.EverySmall(n, func(d api.Diagram) {
 			name, key := leastText(d), canon.Key(d)
 			if k, met := keyOf[name]; met && k != key {
 				t.Fatalf("%v: the keys %q and %q", d, k, key)
@@ -138,7 +139,7 @@ func TestNumbersOfDiagrams(t *testing.T) {
 	orders := 1
 	for n, want := range []int{1, 2, 24, 656, 30112} {
 		forms, count, sum := map[string]int{}, 0, 0
-		everySmall(n, func(d api.Diagram) {
+		example.EverySmall(n, func(d api.Diagram) {
 			forms[canon.Key(d)] = canon.Symmetries(d)
 			count++
 		})

@@ -7,20 +7,21 @@ import (
 	"unravel/api"
 	"unravel/canon"
 	"unravel/diagram"
+	"unravel/example"
 )
 
 func TestForm(t *testing.T) {
 	for _, c := range []struct{ d, want api.Diagram }{
 		{api.Diagram{}, api.Diagram{}},
-		{loops(5), loops(5)},
-		{kink(), kink()},
-		{beside(kink(), negativeKink(), loops(2)), beside(negativeKink(), kink(), loops(2))},
-		{beside(twisted(2, -1), kink()), beside(kink(), twisted(2, -1))},
-		{trefoil(), diagramOf([]int{1, 1, 1}, 0, 5, 8, 11, 6, 9, 0, 3, 10, 1, 4, 7, 2)},
-		{beside(trefoil(), kink()),
-			diagramOf([]int{1, 1, 1, 1}, 0, 1, 0, 3, 2, 9, 12, 15, 10, 13, 4, 7, 14, 5, 8, 11, 6)},
-		{figureEight(), diagramOf([]int{-1, 1, -1, 1}, 0, 5, 10, 9, 12, 11, 0, 15, 14, 13, 2, 1, 4, 3, 8, 7, 6)},
-		{closure(2, 1, 1, -1), diagramOf([]int{-1, 1, 1}, 0, 6, 5, 8, 11, 9, 1, 0, 10, 2, 4, 7, 3)},
+		{example.Loops(5), example.Loops(5)},
+		{example.Kink(), example.Kink()},
+		{beside(example.Kink(), example.NegativeKink(), example.Loops(2)), beside(example.NegativeKink(), example.Kink(), example.Loops(2))},
+		{beside(twisted(2, -1), example.Kink()), beside(example.Kink(), twisted(2, -1))},
+		{example.Trefoil(), example.Of([]int{1, 1, 1}, 0, 5, 8, 11, 6, 9, 0, 3, 10, 1, 4, 7, 2)},
+		{beside(example.Trefoil(), example.Kink()),
+			example.Of([]int{1, 1, 1, 1}, 0, 1, 0, 3, 2, 9, 12, 15, 10, 13, 4, 7, 14, 5, 8, 11, 6)},
+		{example.FigureEight(), example.Of([]int{-1, 1, -1, 1}, 0, 5, 10, 9, 12, 11, 0, 15, 14, 13, 2, 1, 4, 3, 8, 7, 6)},
+		{closure(2, 1, 1, -1), example.Of([]int{-1, 1, 1}, 0, 6, 5, 8, 11, 9, 1, 0, 10, 2, 4, 7, 3)},
 	} {
 		if form, e := canon.Form(c.d); e != api.OK || !diagram.Equal(form, c.want) {
 			t.Errorf("%v: the form %v, %d, not %v", c.d, form, e, c.want)
@@ -29,8 +30,8 @@ func TestForm(t *testing.T) {
 }
 
 func TestInvalidDiagramsHaveNoForm(t *testing.T) {
-	for _, d := range invalidDiagrams() {
-		if form, e := canon.Form(d); e != api.ErrArg || !isZero(form) {
+	for _, d := range example.Invalid() {
+		if form, e := canon.Form(d); e != api.ErrArg || !example.IsZero(form) {
 			t.Errorf("%v: the form %v, %d", d, form, e)
 		}
 	}
@@ -103,7 +104,7 @@ func TestFormsAreTheLeastOnes(t *testing.T) {
 			check(d)
 		}
 	}
-	everySmall(3, func(d api.Diagram) {
+	example.EverySmall(3, func(d api.Diagram) {
 		if len(diagram.Graph(d)) == 1 {
 			check(d)
 		}

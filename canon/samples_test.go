@@ -1,32 +1,12 @@
 package canon_test
 
 import (
-	"math"
 	"slices"
 
 	"unravel/api"
 	"unravel/diagram"
+	"unravel/example"
 )
-
-func diagramOf(signs []int, loops int, mate ...int) api.Diagram {
-	return api.Diagram{Signs: signs, Mate: mate, Loops: loops}
-}
-
-func isZero(d api.Diagram) bool { return diagram.Equal(d, api.Diagram{}) }
-
-func loops(n int) api.Diagram { return api.Diagram{Loops: n} }
-
-func kink() api.Diagram { return diagramOf([]int{1}, 0, 1, 0, 3, 2) }
-
-func negativeKink() api.Diagram { return diagramOf([]int{-1}, 0, 3, 2, 1, 0) }
-
-func trefoil() api.Diagram {
-	return diagramOf([]int{1, 1, 1}, 0, 9, 4, 7, 10, 1, 8, 11, 2, 5, 0, 3, 6)
-}
-
-func figureEight() api.Diagram {
-	return diagramOf([]int{1, -1, -1, 1}, 0, 11, 4, 15, 14, 1, 10, 9, 12, 13, 6, 5, 0, 7, 8, 3, 2)
-}
 
 // twisted is the closure of the braid on two strands with n crossings of one sign.
 func twisted(n, sign int) api.Diagram {
@@ -131,33 +111,33 @@ func samples() map[string]sample {
 	join := slices.Concat[[]int]
 	return map[string]sample{
 		"empty":              {api.Diagram{}, []int{0, 0}, 1},
-		"empty slices":       {diagramOf([]int{}, 0, []int{}...), []int{0, 0}, 1},
-		"one loop":           {loops(1), []int{1, 0}, 1},
-		"MaxLoops":           {loops(api.MaxLoops), []int{64, 0}, 1},
-		"kink":               {kink(), join([]int{0, 1}, onKink), 1},
-		"negative kink":      {negativeKink(), join([]int{0, 1}, onNegative), 1},
-		"kink and loops":     {beside(loops(2), kink(), loops(3)), join([]int{5, 1}, onKink), 1},
+		"empty slices":       {example.Of([]int{}, 0, []int{}...), []int{0, 0}, 1},
+		"one loop":           {example.Loops(1), []int{1, 0}, 1},
+		"MaxLoops":           {example.Loops(api.MaxLoops), []int{64, 0}, 1},
+		"kink":               {example.Kink(), join([]int{0, 1}, onKink), 1},
+		"negative kink":      {example.NegativeKink(), join([]int{0, 1}, onNegative), 1},
+		"kink and loops":     {beside(example.Loops(2), example.Kink(), example.Loops(3)), join([]int{5, 1}, onKink), 1},
 		"Hopf link":          {twisted(2, 1), join([]int{0, 1}, onHopf), 2},
 		"negative Hopf link": {twisted(2, -1), join([]int{0, 1}, onNegativeHopf), 2},
-		"trefoil":            {trefoil(), join([]int{0, 1}, onTrefoil), 3},
+		"trefoil":            {example.Trefoil(), join([]int{0, 1}, onTrefoil), 3},
 		"left trefoil":       {twisted(3, -1), join([]int{0, 1}, onLeftTrefoil), 3},
 		// the crossing 1 is the least of the negative ones, and equal to the crossing 2
-		"figure-eight knot": {figureEight(),
+		"figure-eight knot": {example.FigureEight(),
 			[]int{0, 1, 4, -1, 5, 10, 9, 12, 1, 11, 0, 15, 14, -1, 13, 2, 1, 4, 1, 3, 8, 7, 6}, 2},
 		// only the last crossing is negative, so that it gets the number 0
 		"one crossing switched": {closure(2, 1, 1, -1), []int{0, 1, 3, -1, 6, 5, 8, 11, 1, 9, 1, 0, 10, 1, 2, 4, 7, 3}, 1},
-		"nested kinks":          {diagramOf([]int{1, 1}, 0, 5, 4, 3, 2, 1, 0, 7, 6), []int{0, 1, 2, 1, 5, 4, 3, 2, 1, 1, 0, 7, 6}, 2},
-		"clasp":                 {diagramOf([]int{1, -1}, 2, 6, 5, 4, 7, 2, 1, 0, 3), []int{2, 1, 2, -1, 6, 5, 4, 7, 1, 2, 1, 0, 3}, 1},
+		"nested kinks":          {example.Of([]int{1, 1}, 0, 5, 4, 3, 2, 1, 0, 7, 6), []int{0, 1, 2, 1, 5, 4, 3, 2, 1, 1, 0, 7, 6}, 2},
+		"clasp":                 {example.Of([]int{1, -1}, 2, 6, 5, 4, 7, 2, 1, 0, 3), []int{2, 1, 2, -1, 6, 5, 4, 7, 1, 2, 1, 0, 3}, 1},
 		// graph components in ascending order, first by their numbers of crossings
-		"kinks of both signs": {beside(kink(), negativeKink()), join([]int{0, 2}, onNegative, onKink), 1},
-		"three kinks":         {beside(kink(), negativeKink(), kink()), join([]int{0, 3}, onNegative, onKink, onKink), 2},
-		"less but larger":     {beside(twisted(2, -1), kink()), join([]int{0, 2}, onKink, onNegativeHopf), 2},
+		"kinks of both signs": {beside(example.Kink(), example.NegativeKink()), join([]int{0, 2}, onNegative, onKink), 1},
+		"three kinks":         {beside(example.Kink(), example.NegativeKink(), example.Kink()), join([]int{0, 3}, onNegative, onKink, onKink), 2},
+		"less but larger":     {beside(twisted(2, -1), example.Kink()), join([]int{0, 2}, onKink, onNegativeHopf), 2},
 		"two Hopf links":      {beside(twisted(2, 1), twisted(2, -1)), join([]int{0, 2}, onNegativeHopf, onHopf), 4},
-		"descending": {beside(trefoil(), twisted(3, -1), loops(7), twisted(2, 1), kink(), trefoil()),
+		"descending": {beside(example.Trefoil(), twisted(3, -1), example.Loops(7), twisted(2, 1), example.Kink(), example.Trefoil()),
 			join([]int{7, 5}, onKink, onHopf, onLeftTrefoil, onTrefoil, onTrefoil), 2 * 3 * 3 * 3 * 2},
-		"alternating trefoils": {renumbered(beside(trefoil(), trefoil()), []int{0, 3, 1, 4, 2, 5}),
+		"alternating trefoils": {renumbered(beside(example.Trefoil(), example.Trefoil()), []int{0, 3, 1, 4, 2, 5}),
 			join([]int{0, 2}, onTrefoil, onTrefoil), 3 * 3 * 2},
-		"all limits": {beside(copies(api.MaxCrossings, kink()), loops(api.MaxLoops)),
+		"all limits": {beside(copies(api.MaxCrossings, example.Kink()), example.Loops(api.MaxLoops)),
 			join([]int{64, 64}, slices.Repeat(onKink, api.MaxCrossings)), 1 << 40},
 	}
 }
@@ -179,8 +159,8 @@ func larger() map[string]api.Diagram {
 		"MaxCrossings, woven":    closure(3, slices.Repeat([]int{1, -2}, api.MaxCrossings/2)...),
 		"MaxCrossings, one odd":  closure(2, append(slices.Repeat([]int{1}, api.MaxCrossings-1), -1)...),
 		"MaxCrossings, mixed":    closure(5, slices.Repeat([]int{1, -2, 3, 4, -3, 2, -1, -4}, api.MaxCrossings/8)...),
-		"parts": beside(figureEight(), closure(3, 1, -2, 1, -2, 1, -2), loops(3), negativeKink(), reflected(trefoil()),
-			twisted(4, -1), figureEight(), kink(), closure(2, 1, -1), closure(3, 1, 2), closure(3, 1, 1, 2, -1)),
+		"parts": beside(example.FigureEight(), closure(3, 1, -2, 1, -2, 1, -2), example.Loops(3), example.NegativeKink(), reflected(example.Trefoil()),
+			twisted(4, -1), example.FigureEight(), example.Kink(), closure(2, 1, -1), closure(3, 1, 2), closure(3, 1, 1, 2, -1)),
 	}
 }
 
@@ -231,57 +211,4 @@ func everyOrder(n int, visit func(order []int)) {
 		}
 	}
 	permute(0)
-}
-
-// everySmall visits all valid diagrams with n crossings and without loops: all
-// signs, with all ways to mate outgoing with incoming half-edges.
-func everySmall(n int, visit func(d api.Diagram)) {
-	for bits := range 1 << n {
-		d := api.Diagram{Mate: make([]int, 4*n)}
-		var outgoing, incoming []int
-		for c := range n {
-			sign := 1 - bits>>c&1*2
-			d.Signs = append(d.Signs, sign)
-			outgoing = append(outgoing, 4*c+2, 4*c+2-sign)
-			incoming = append(incoming, 4*c, 4*c+2+sign)
-		}
-		everyOrder(2*n, func(order []int) {
-			for i, k := range order {
-				d.Mate[outgoing[i]], d.Mate[incoming[k]] = incoming[k], outgoing[i]
-			}
-			if diagram.Valid(d) {
-				visit(d)
-			}
-		})
-	}
-}
-
-// invalidDiagrams lists diagrams that are not valid.
-func invalidDiagrams() []api.Diagram {
-	return []api.Diagram{
-		diagramOf([]int{1}, 0, 2, 3, 0, 1),
-		diagramOf([]int{1}, 0, 3, 2, 1, 0),
-		diagramOf([]int{1}, 0, 3, 2, 1, -1),
-		diagramOf([]int{-1}, 0, 1, 0, 3, 2),
-		diagramOf([]int{0}, 0, 1, 0, 3, 2),
-		diagramOf([]int{2}, 0, 1, 0, 3, 2),
-		diagramOf([]int{1}, 0, 1, 0, 3),
-		diagramOf([]int{1}, 0, 1, 0, 3, 2, 5, 4, 7, 6),
-		diagramOf([]int{1}, 0, 1, 0, 3, 4),
-		diagramOf([]int{1}, 0, 0, 1, 2, 3),
-		diagramOf([]int{1}, 0),
-		diagramOf(nil, 0, 1, 0),
-		diagramOf([]int{1}, -1, 1, 0, 3, 2),
-		diagramOf([]int{1}, api.MaxLoops+1, 1, 0, 3, 2),
-		diagramOf([]int{1, 1}, 0, 6, 7, 5, 4, 3, 2, 0, 1),
-		beside(trefoil(), diagramOf([]int{1}, 0, 2, 3, 0, 1)),
-		beside(trefoil(), loops(-1)),
-		loops(-1),
-		loops(math.MinInt),
-		loops(api.MaxLoops + 1),
-		loops(math.MaxInt),
-		copies(api.MaxCrossings+1, kink()),
-		twisted(api.MaxCrossings+1, 1),
-		twisted(100*api.MaxCrossings, -1),
-	}
 }

@@ -1,16 +1,14 @@
 package connect_test
 
 import (
-	"math"
 	"slices"
 	"testing"
 
 	"unravel/api"
 	"unravel/connect"
 	"unravel/diagram"
+	"unravel/example"
 )
-
-var extremes = []int{math.MinInt, -1 << 32, -256, -65, -2, -1, 0, 1, 2, 3, 4, 64, 65, 255, 256, 1 << 32, math.MaxInt}
 
 // callAll calls every function with the diagram. Panics fail the test, and so
 // does a call that runs on, by the time limit of go test.
@@ -33,14 +31,14 @@ func callAll(t *testing.T, d api.Diagram) {
 	errors := map[api.Errno]bool{}
 	keep := func(e api.Errno, results ...api.Diagram) {
 		for _, r := range results {
-			if e != api.OK && !isZero(r) {
+			if e != api.OK && !example.IsZero(r) {
 				t.Errorf("%v: %v with the error %d", d, r, e)
 			}
 		}
 		list, errors[e] = append(list, results...), true
 	}
-	for _, n := range extremes {
-		for _, other := range []api.Diagram{d, withLoops(negativeKink(), 1)} {
+	for _, n := range example.Extremes() {
+		for _, other := range []api.Diagram{d, example.WithLoops(example.NegativeKink(), 1)} {
 			a, e := connect.Union(d, other)
 			keep(e, a)
 			a, e = connect.Sum(d, n, other, 3)
@@ -48,7 +46,7 @@ func callAll(t *testing.T, d api.Diagram) {
 			a, e = connect.Sum(other, 2, d, n)
 			keep(e, a)
 		}
-		for _, k := range extremes {
+		for _, k := range example.Extremes() {
 			a, b, e := connect.Factor(d, n, k)
 			keep(e, a, b)
 		}
@@ -72,39 +70,16 @@ func TestNoArgumentPanics(t *testing.T) {
 			callAll(t, d)
 		}
 	}
-	for _, d := range invalidDiagrams() {
+	for _, d := range slices.Concat(example.Invalid(), example.Strange()) {
 		callAll(t, d)
 	}
-	for _, n := range extremes {
-		callAll(t, loops(n))
-		callAll(t, diagramOf([]int{n}, 0))
-		for _, k := range extremes {
-			callAll(t, diagramOf([]int{1}, 0, n, k, 3, 2))
-			callAll(t, diagramOf([]int{n}, k, 1, 0, 3, 2))
-			callAll(t, diagramOf(nil, k, n))
-		}
-		for h := range 12 {
-			d := chain(3)
-			d.Mate[h] = n
-			callAll(t, d)
-		}
-	}
-	callAll(t, diagramOf(make([]int, 1<<16), 0, make([]int, 1<<18)...))
-}
-
-// overwrite changes all the memory that can be reached through a slice. It
-// reports whether some other slice has changed it before.
-func overwrite(list []int) bool {
-	list = list[:cap(list)]
-	shared := slices.Contains(list, 77)
-	for i := range list {
-		list[i] = 77
-	}
-	return shared
 }
 
 func TestNothingSharesMemory(t *testing.T) {
-	for _, sample := range []api.Diagram{withLoops(figureEight(), 2), withLoops(chain(5), 1), withLoops(kinks(3), 2), loops(2)} {
+	for _, sample := range []api.Diagram{
+		example.WithLoops(example.FigureEight(), 2), example.WithLoops(example.Chain(5), 1),
+		example.WithLoops(example.Kinks(3), 2), example.Loops(2),
+	} {
 		for name, call := range map[string]func(d api.Diagram) []api.Diagram{
 			"Split":   connect.Split,
 			"Factors": connect.Factors,
@@ -115,7 +90,7 @@ func TestNothingSharesMemory(t *testing.T) {
 			"Sum":           func(d api.Diagram) []api.Diagram { return first(connect.Sum(d, edgeOf(d, 0), d, edgeOf(d, 3))) },
 			"Sum at a loop": func(d api.Diagram) []api.Diagram { return first(connect.Sum(d, -1, d, edgeOf(d, 1))) },
 			"Sum with a loop": func(d api.Diagram) []api.Diagram {
-				return slices.Concat(first(connect.Sum(d, edgeOf(d, 1), loops(1), -1)), first(connect.Sum(loops(1), -1, d, edgeOf(d, 1))))
+				return slices.Concat(first(connect.Sum(d, edgeOf(d, 1), example.Loops(1), -1)), first(connect.Sum(example.Loops(1), -1, d, edgeOf(d, 1))))
 			},
 			"Factor": func(d api.Diagram) []api.Diagram {
 				a, b, _ := connect.Factor(d, 2, 6)
@@ -124,7 +99,7 @@ func TestNothingSharesMemory(t *testing.T) {
 		} {
 			d := diagram.Clone(sample)
 			for _, r := range call(d) {
-				if overwrite(r.Signs) || overwrite(r.Mate) {
+				if example.Overwrite(r.Signs) || example.Overwrite(r.Mate) {
 					t.Errorf("%s of %v: two slices share memory", name, sample)
 				}
 			}

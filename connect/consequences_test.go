@@ -8,6 +8,7 @@ import (
 	"unravel/canon"
 	"unravel/connect"
 	"unravel/diagram"
+	"unravel/example"
 )
 
 // united is the union of all diagrams.
@@ -78,7 +79,7 @@ func partByPart(d api.Diagram) api.Diagram {
 
 func TestThePiecesOfAUnion(t *testing.T) {
 	pairs(func(a, b api.Diagram) {
-		crossings := withLoops(a, 0)
+		crossings := example.WithLoops(a, 0)
 		all, _ := connect.Union(crossings, b)
 		if got := connect.Split(all); !equalDiagrams(got, slices.Concat(connect.Split(crossings), connect.Split(b))) {
 			t.Fatalf("%v and %v: %v", a, b, got)
@@ -93,15 +94,15 @@ func eachPairOfParts(visit func(a, b api.Diagram)) {
 	var parts []api.Diagram
 	add := func(d api.Diagram) {
 		if len(diagram.Graph(d)) == 1 && isSmall(d) {
-			parts = append(parts, withLoops(d, 0))
+			parts = append(parts, example.WithLoops(d, 0))
 		}
 	}
 	for _, d := range samples() {
 		add(d)
 	}
-	everySmall(2, add)
+	example.EverySmall(2, add)
 	met := 0
-	everySmall(3, func(d api.Diagram) {
+	example.EverySmall(3, func(d api.Diagram) {
 		if met%60 == 0 {
 			add(d)
 		}
@@ -145,7 +146,7 @@ func TestSumUndoesFactor(t *testing.T) {
 			for _, x := range outgoing(a) {
 				for _, y := range outgoing(b) {
 					sum, e := connect.Sum(a, x, b, y)
-					found = found || e == api.OK && canon.Same(sum, withLoops(d, 0))
+					found = found || e == api.OK && canon.Same(sum, example.WithLoops(d, 0))
 				}
 			}
 			if !found {

@@ -7,6 +7,7 @@ import (
 	"unravel/api"
 	"unravel/connect"
 	"unravel/diagram"
+	"unravel/example"
 	"unravel/gauss"
 )
 
@@ -36,7 +37,7 @@ func codesBeside(a, b gauss.Code) gauss.Code {
 }
 
 func modelUnion(a, b api.Diagram) api.Diagram {
-	return drawn(codesBeside(codeOf(a), codeOf(b)))
+	return example.Drawn(codesBeside(codeOf(a), codeOf(b)))
 }
 
 // visitOf gives the number of the component and the index of the visit after
@@ -59,14 +60,14 @@ func modelSum(a api.Diagram, x int, b api.Diagram, y int) api.Diagram {
 	code := codesBeside(codeOf(a), codeOf(b))
 	if x == -1 || y == -1 {
 		code.Loops--
-		return drawn(code)
+		return example.Drawn(code)
 	}
 	first, i := visitOf(a, x)
 	second, k := visitOf(b, y)
 	second += len(diagram.Strands(a))
 	code.Comps[first] = slices.Concat(after(code.Comps[first], i), after(code.Comps[second], k))
 	code.Comps = slices.Delete(code.Comps, second, second+1)
-	return drawn(code)
+	return example.Drawn(code)
 }
 
 // codeParts lists the crossings that belong together by common components.
@@ -117,7 +118,7 @@ func drawnPart(c gauss.Code, crossings []int) api.Diagram {
 		}
 		p.Comps = append(p.Comps, renumbered)
 	}
-	return drawn(p)
+	return example.Drawn(p)
 }
 
 func modelSplit(d api.Diagram) []api.Diagram {
@@ -126,7 +127,7 @@ func modelSplit(d api.Diagram) []api.Diagram {
 	for _, crossings := range codeParts(c) {
 		pieces = append(pieces, drawnPart(c, crossings))
 	}
-	return append(pieces, slices.Repeat([]api.Diagram{loops(1)}, d.Loops)...)
+	return append(pieces, slices.Repeat([]api.Diagram{example.Loops(1)}, d.Loops)...)
 }
 
 // modelFactor makes two components of the one that leads along both half-edges.
@@ -235,7 +236,7 @@ func TestSumAsByCodes(t *testing.T) {
 			for y := -2; y <= len(b.Mate); y++ {
 				got, e := connect.Sum(a, x, b, y)
 				if !isPlace(a, x) || !isPlace(b, y) {
-					if e != api.ErrRange || !isZero(got) {
+					if e != api.ErrRange || !example.IsZero(got) {
 						t.Fatalf("%v at %d and %v at %d: %v, %d", a, x, b, y, got, e)
 					}
 					continue
@@ -306,7 +307,7 @@ func TestFactorAsByCodes(t *testing.T) {
 						t.Fatalf("%v along %d and %d: %v and %v", d, x, y, a, b)
 					}
 				}
-				if e != want || e != api.OK && !(isZero(a) && isZero(b)) {
+				if e != want || e != api.OK && !(example.IsZero(a) && example.IsZero(b)) {
 					t.Fatalf("%v along %d and %d: %v and %v, %d", d, x, y, a, b, e)
 				}
 			}

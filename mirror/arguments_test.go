@@ -1,17 +1,14 @@
 package mirror_test
 
 import (
-	"math"
 	"slices"
 	"testing"
 
 	"unravel/api"
 	"unravel/diagram"
+	"unravel/example"
 	"unravel/mirror"
 )
-
-var extremes = []int{math.MinInt, math.MinInt + 1, -1 << 32, -256, -65, -2, -1, 0, 1, 2, 3, 4, 64, 65, 255, 256,
-	1 << 32, 1<<61 + 1, math.MaxInt - 1, math.MaxInt}
 
 // calls lists all functions, the number being that of a component or a crossing,
 // by names.
@@ -34,10 +31,10 @@ func callAll(t *testing.T, d api.Diagram) {
 	}()
 	before := diagram.Clone(d)
 	isValid := diagram.Valid(d)
-	for _, number := range append([]int{len(d.Signs) - 1, len(d.Signs)}, extremes...) {
+	for _, number := range append([]int{len(d.Signs) - 1, len(d.Signs)}, example.Extremes()...) {
 		for name, call := range calls(number) {
 			got, e := call(d)
-			if (e == api.ErrArg) == isValid || !diagram.Valid(got) || e != api.OK && !isZero(got) {
+			if (e == api.ErrArg) == isValid || !diagram.Valid(got) || e != api.OK && !example.IsZero(got) {
 				t.Errorf("%s of %v at %d: %v, %d", name, d, number, got, e)
 			}
 		}
@@ -51,51 +48,27 @@ func TestNoArgumentPanics(t *testing.T) {
 	for _, d := range samples() {
 		callAll(t, d)
 	}
-	for _, d := range invalidDiagrams() {
+	for _, d := range slices.Concat(example.Invalid(), example.Strange()) {
 		callAll(t, d)
 	}
-	for _, n := range extremes {
-		callAll(t, loops(n))
-		callAll(t, diagramOf([]int{n}, 0))
-		for _, k := range extremes {
-			callAll(t, diagramOf([]int{1}, 0, n, k, 3, 2))
-			callAll(t, diagramOf([]int{n}, k, 1, 0, 3, 2))
-			callAll(t, diagramOf([]int{n}, k, 3, 2, 1, 0))
-			callAll(t, diagramOf(nil, k, n))
-		}
-		for h := range 12 {
-			d := trefoil()
-			d.Mate[h] = n
-			callAll(t, d)
-		}
-	}
-	callAll(t, diagramOf(make([]int, 1<<16), 0, make([]int, 1<<18)...))
 }
 
 // The number 3 is a loop of the second diagram.
 func TestNothingSharesMemory(t *testing.T) {
-	for _, sample := range []api.Diagram{figureEight(), withLoops(figureEight(), 5)} {
+	for _, sample := range []api.Diagram{example.FigureEight(), example.WithLoops(example.FigureEight(), 5)} {
 		for _, number := range []int{0, 3} {
 			for name, call := range calls(number) {
 				d := diagram.Clone(sample)
 				got, e := call(d)
-				overwrite(got.Signs)
+				example.Overwrite(got.Signs)
 				if slices.Contains(got.Mate, 77) {
 					t.Errorf("%s: the signs share memory with the mates", name)
 				}
-				overwrite(got.Mate)
+				example.Overwrite(got.Mate)
 				if !diagram.Equal(d, sample) {
 					t.Errorf("%s: the result, %d, shares memory with the argument", name, e)
 				}
 			}
 		}
-	}
-}
-
-// overwrite changes all the memory that can be reached through a slice.
-func overwrite(list []int) {
-	list = list[:cap(list)]
-	for i := range list {
-		list[i] = 77
 	}
 }

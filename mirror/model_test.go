@@ -6,6 +6,7 @@ import (
 
 	"unravel/api"
 	"unravel/diagram"
+	"unravel/example"
 	"unravel/gauss"
 	"unravel/mirror"
 )
@@ -42,13 +43,13 @@ func modelMirror(d api.Diagram) api.Diagram {
 	c := codeOf(d)
 	exchange(c, func(int) bool { return true })
 	negate(c.Signs)
-	return drawn(c)
+	return example.Drawn(c)
 }
 
 func modelReflect(d api.Diagram) api.Diagram {
 	c := codeOf(d)
 	negate(c.Signs)
-	return drawn(c)
+	return example.Drawn(c)
 }
 
 func modelReverse(d api.Diagram) api.Diagram {
@@ -56,7 +57,7 @@ func modelReverse(d api.Diagram) api.Diagram {
 	for _, comp := range c.Comps {
 		slices.Reverse(comp)
 	}
-	return drawn(c)
+	return example.Drawn(c)
 }
 
 // modelReverseOne changes a sign for each visit: twice where the component
@@ -69,14 +70,14 @@ func modelReverseOne(d api.Diagram, component int) api.Diagram {
 			c.Signs[v.Crossing] = -c.Signs[v.Crossing]
 		}
 	}
-	return drawn(c)
+	return example.Drawn(c)
 }
 
 func modelSwitch(d api.Diagram, crossing int) api.Diagram {
 	c := codeOf(d)
 	exchange(c, func(k int) bool { return k == crossing })
 	c.Signs[crossing] = -c.Signs[crossing]
-	return drawn(c)
+	return example.Drawn(c)
 }
 
 // modelSmooth also reports whether there are not too many loops.
@@ -114,7 +115,7 @@ func modelSmooth(d api.Diagram, crossing int) (api.Diagram, bool) {
 	if s.Loops > api.MaxLoops {
 		return api.Diagram{}, false
 	}
-	return drawn(s), true
+	return example.Drawn(s), true
 }
 
 // cutAt cuts a cyclic sequence at the visits of a crossing, which it drops.
@@ -176,7 +177,7 @@ func TestSmoothAsByCodes(t *testing.T) {
 			got, e := mirror.Smooth(d, c)
 			if want, fits := modelSmooth(d, c); fits {
 				expect(t, "Smooth", d, got, e, want)
-			} else if e != api.ErrFull || !isZero(got) {
+			} else if e != api.ErrFull || !example.IsZero(got) {
 				t.Fatalf("Smooth of %v at %d: %v, %d", d, c, got, e)
 			}
 		}
@@ -184,7 +185,7 @@ func TestSmoothAsByCodes(t *testing.T) {
 	everyDiagram(check)
 	everyDiagram(func(d api.Diagram) {
 		for missing := range 3 {
-			check(withLoops(d, api.MaxLoops-missing))
+			check(example.WithLoops(d, api.MaxLoops-missing))
 		}
 	})
 }
@@ -194,13 +195,13 @@ func TestSmoothAsByCodes(t *testing.T) {
 func TestSmoothAllAsByCodes(t *testing.T) {
 	for name, d := range samples() {
 		for _, step := range []int{0, 1, 5, 11} {
-			rest := withLoops(d, 0)
+			rest := example.WithLoops(d, 0)
 			for k := 0; len(rest.Signs) > 0; k += step {
 				c := k % len(rest.Signs)
 				want, fits := modelSmooth(rest, c)
 				got, e := mirror.Smooth(rest, c)
 				if !fits {
-					if e != api.ErrFull || !isZero(got) {
+					if e != api.ErrFull || !example.IsZero(got) {
 						t.Fatalf("%s: %v, %d", name, got, e)
 					}
 					break
